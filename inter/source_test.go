@@ -49,7 +49,7 @@ func TestSource(t *testing.T) {
 
 // Each of the texts is a source, and none of it is lost.
 func TestParts(t *testing.T) {
-	n := len(pictures())
+	n := len(pictures()) + len(placed(fetchAt))
 	for k, text := range []string{beginning, fetching, kinds, noughts, drawing, throwing, jumping, skipping, setting, reckoning, choosing, moving, timing, waiting, pointing, splitting} {
 		l, e, line := source.Parse(text)
 		if e != api.OK || len(l) == 0 {
@@ -97,8 +97,19 @@ func instructions(t *testing.T) map[int]byte {
 	return ops
 }
 
-// P20.1: Fetch is the first byte of an instruction.
+// P20.1: Fetch is the first byte of an instruction, and the loop's label; what the interpreter begins with ends right ahead of it.
 func TestFetch(t *testing.T) {
+	if at, is := asm.Find(assembled(t), "fetch"); !is || at != int(Fetch()) {
+		t.Errorf("the label lies at %04x: %v", at, is)
+	}
+	size := 0
+	for _, i := range part(beginning) {
+		n, _ := source.Size(i)
+		size += n
+	}
+	if size != int(Fetch()) {
+		t.Errorf("the beginning has %d bytes", size)
+	}
 	if _, is := instructions(t)[int(Fetch())]; !is || Fetch() > 0x1ff {
 		t.Errorf("no instruction begins at %04x", Fetch())
 	}

@@ -27,11 +27,17 @@ func fetches(b api.Board) bool {
 	return c.Phase == api.Fetch && c.R[c.P] == inter.Fetch() && !b.Latch
 }
 
+// mayStand is false of a machine, of those that may be, that stands for no game, whatever bytes it has.
+func mayStand(b api.Board) bool {
+	_, is := callsAbove(b.CPU.R[stackRegister])
+	return is && fetches(b) && len(b.RAM) == api.InterRAM
+}
+
 // game is what a machine, of those that may be, stands for; false, if that is no game.
 func (p player) game(b api.Board) (api.Game, bool) {
-	calls, is := callsAbove(b.CPU.R[stackRegister])
-	if !is || !fetches(b) || !p.isIn(b) {
+	if !mayStand(b) || !p.isIn(b) {
 		return api.Game{}, false
 	}
+	calls, _ := callsAbove(b.CPU.R[stackRegister])
 	return read(b, calls), true
 }
